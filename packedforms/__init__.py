@@ -1,0 +1,1 @@
+"""Packedforms: records and variants packed into bytes by their kinds."""
