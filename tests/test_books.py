@@ -123,7 +123,8 @@ class FormFaultTest(unittest.TestCase):
             self.right(kind)
 
     def test_kind(self):
-        for thing in NO_THINGS + ((True,), (None, 8), ("Nat", 8), ("number",), (("nat", 8),), ("list", N8), ("nat ", 8)):
+        others = ((True,), (None, 8), ("Nat", 8), ("number",), (("nat", 8),), ("list", N8), ("nat ", 8))
+        for thing in NO_THINGS + others:
             self.told(thing, (), "kind", ())
             self.told(maybe(thing), (1,), "kind", ())
             self.told(row(2, thing), (2,), "kind")

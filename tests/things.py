@@ -90,3 +90,15 @@ def refusal(call, *told, **named):
         assert type(why).__mro__[1].__name__ == "PackError"
         return (type(why).__name__, *vars(why).values())
     return None
+
+# Uses of six and of one put so many boxes around a kind.
+BOXES = (("six", ("a",), box(hole("a"), 6)), ("one", ("a",), box(hole("a"))),
+         ("chain", (), maybe(box(use("chain")))),
+         ("void", (), record(x=T, y=box(use("void")))),
+         ("tree", (), variant(fork=record(l=box(use("tree")), r=box(use("tree"))), leaf=N8)),
+         ("late", (), variant(far=box(use("late")), near=use("one", T), also=use("one", N8))))
+TWELVE = use("six", use("six", T))
+THIRTEEN = use("one", TWELVE)
+
+# A plainest worth of just 1000 parts: 1 + 9 * (1 + 10 * (1 + 10)).
+PARTS_1000 = row(9, box(row(10, row(10, N8))))

@@ -1,0 +1,77 @@
+"""No recursion deeper than a few hundred calls, and the same answer each time, whatever is handed in: [2], L11."""
+
+import sys
+import unittest
+
+from packedforms.books import bookfault, formfault
+from packedforms.kinds import alike
+from packedforms.needs import needfault, plainest
+from packedforms.plancheck import planfault
+from packedforms.reaches import highfault, kindfault, ringfault
+from packedforms.worths import before, coded, decoded, deepness, misfit, sizeof, unranked
+from tests.planning import simple_plan
+from tests.things import BOXES, LIST, LIST8, N8, T, THIRTEEN, box, deep, maybe, record, refusal, row, use
+
+CHECKERS = (formfault, kindfault, ringfault, highfault, needfault, planfault)
+DEEP = (deep(280), deep(280, 1), deep(270, "a"), deep(1, deep(279)), (deep(270), deep(270)), (T, deep(270)),
+        ("nat", deep(270)), ("record", deep(270)), ("record", (("a", deep(270)),)), ("use", "list", deep(270)),
+        ((T, ("slot", deep(270))),), ((deep(270), 1),), ((T, 1), (T, deep(270))))
+
+# As high as a kind can be between boxes, so that a worth lies as deep as it can.
+HIGH = (("h", (), maybe(box(use("g")), 5)), ("g", (), maybe(use("h"), 2)))
+
+
+def calls_deep():
+    frame, many = sys._getframe(), 0
+    while frame is not None:
+        frame, many = frame.f_back, many + 1
+    return many
+
+
+class DepthTest(unittest.TestCase):
+    def setUp(self):
+        self.limit = sys.getrecursionlimit()
+        sys.setrecursionlimit(calls_deep() + 200)
+
+    def tearDown(self):
+        sys.setrecursionlimit(self.limit)
+
+    def twice(self, call, *told):
+        first = call(*told)
+        self.assertEqual(call(*told), first)
+        return first
+
+    def test_deep_things(self):
+        for thing in DEEP:
+            self.assertIsNotNone(self.twice(bookfault, thing))
+            self.assertIs(self.twice(alike, thing, thing), True)
+            for call in CHECKERS:
+                for book in ((), LIST, BOXES, thing):
+                    self.assertIsNotNone(self.twice(call, book, thing))
+            for kind in (T, N8, row(2, T), maybe(T)):
+                self.assertIsNotNone(self.twice(misfit, (), kind, thing))
+            self.assertEqual(refusal(coded, N8, thing), ("Misfit", ()))
+            self.assertEqual(refusal(decoded, N8, thing)[0], "NoCode")
+            self.assertEqual(refusal(unranked, (), N8, thing)[0], "NoRank")
+
+    def test_deep_worths(self):
+        kind = use("h")
+        worth = deep(4 + 7 * 12)
+        self.assertIsNone(self.twice(misfit, HIGH, kind, worth))
+        self.assertEqual(self.twice(deepness, HIGH, kind, worth), 12)
+        self.assertEqual(self.twice(sizeof, HIGH, kind, worth), 5 + 7 * 12)
+        self.assertIs(self.twice(before, HIGH, kind, deep(3 + 7 * 12), worth), True)
+        self.assertEqual(len(misfit(HIGH, kind, deep(280))), 5 + 7 * 12)
+
+    def test_deep_kinds(self):
+        self.assertEqual(self.twice(plainest, (), maybe(T, 7)), ())
+        kind = LIST8
+        for each in range(2):
+            kind = use("list", kind)
+        self.assertIsNone(self.twice(kindfault, LIST, kind))
+        self.assertIsNone(self.twice(planfault, LIST, simple_plan(LIST, kind)))
+        self.assertIsNone(self.twice(kindfault, BOXES, record(a=THIRTEEN, b=use("tree"))))
+
+
+if __name__ == "__main__":
+    unittest.main()
