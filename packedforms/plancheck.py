@@ -2,12 +2,11 @@
 
 from packedforms.books import bookfault, closed_fault, parts_of
 from packedforms.kinds import PLAIN_WORDS, is_between, is_tuple_of, is_whole, power, shown
-from packedforms.plans import MOST_SIZE, align, bits_in, own_parts, part_align, part_size, part_spares, size
-from packedforms.plans import tag_align
+from packedforms.plans import MOST_SIZE, SLOT_WIDES, align, bits_in, entries_named, host_slots, own_parts, part_align
+from packedforms.plans import part_size, size, tag_align
 from packedforms.reaches import MOST_KINDS, standing_fault
 from packedforms.webs import met_kinds
 
-SLOT_WIDES = (8, 16, 32, 64)
 MOST_TAG = 8
 MOST_HOSTED_TAG = 64
 # The order in which all entries are looked at once their forms and parts are right.
@@ -64,19 +63,6 @@ def form_right(kind, form):
     if word == "maybe":
         return is_pick(form, 2) and form[5][0][2] == -1 and form[5][0][3] is False
     return is_form(form, "point" if word == "box" else "same", (0,))
-
-
-def entries_named(kind, form):
-    """The numbers of entries that a form of the right shape names, one for each part of its kind."""
-    word = form[0]
-    if word == "slot":
-        return []
-    if word == "run":
-        return [form[2]]
-    if word == "point" or word == "same":
-        return [form[1]]
-    named = [entry for at, entry, far in own_parts(form)]
-    return named[1:] if kind[0] == "maybe" else named
 
 
 def kind_stands(book, thing, standing):
@@ -173,12 +159,6 @@ def size_wrong(plan, entry):
     if has_own_tag(form) and form[2] + form[3] > bits:
         return True
     return any([at + part_size(plan, inner, far) > bits for at, inner, far in own_parts(form)])
-
-
-def host_slots(plan, form):
-    """The spare slots of the host's part that have the place and the bits of the tag."""
-    at, inner, far = own_parts(form)[form[4]]
-    return [slot for slot in part_spares(plan, at, inner, far) if slot[0] == form[2] and slot[1] == form[3]]
 
 
 def spare_wrong(plan, entry):

@@ -1,10 +1,14 @@
-"""Plans that hold: an entry's bits, its align, its block and its spare slots."""
+"""Plans that hold: an entry's bits, its align, its block, its spare slots and what it leads to."""
 
 from packedforms.kinds import power
+from packedforms.webs import Web
 
 ROOT = 0
 MOST_SIZE = 4096
 POINT = 16
+
+# The bits that a slot may have beside those of its numbers themselves.
+SLOT_WIDES = (8, 16, 32, 64)
 
 # The least pattern that no point ever has, as addresses are below it.
 NO_ADDRESS = 32768
@@ -123,3 +127,28 @@ def spares(plan, entry):
     else:
         slots.extend(spares(plan, form[1]))
     return tuple(slots)
+
+
+def host_slots(plan, form):
+    """The spare slots of the host's part that have the place and the bits of a pick's tag."""
+    at, inner, far = own_parts(form)[form[4]]
+    return [slot for slot in part_spares(plan, at, inner, far) if slot[0] == form[2] and slot[1] == form[3]]
+
+
+def entries_named(kind, form):
+    """The numbers of entries that a form of the right shape names, one for each part of its kind."""
+    word = form[0]
+    if word == "slot":
+        return []
+    if word == "run":
+        return [form[2]]
+    if word == "point" or word == "same":
+        return [form[1]]
+    named = [entry for at, entry, far in own_parts(form)]
+    return named[1:] if kind[0] == "maybe" else named
+
+
+def plan_web(plan):
+    """The web of a plan's kinds, each with the number of its entry, so that no book is needed."""
+    links = [tuple(entries_named(kind, form)) for kind, form in plan]
+    return Web(tuple([entry[0] for entry in plan]), links)

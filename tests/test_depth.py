@@ -4,12 +4,16 @@ import sys
 import unittest
 
 from packedforms.books import bookfault, formfault
+from packedforms.images import imaged, imagefault, patternfault, weight, worth_of
 from packedforms.kinds import alike
+from packedforms.maker import planned
 from packedforms.needs import needfault, plainest
+from packedforms.orders import fewest, orderfault
 from packedforms.plancheck import planfault
 from packedforms.reaches import highfault, kindfault, ringfault
+from packedforms.store import Store
 from packedforms.worths import before, coded, decoded, deepness, misfit, sizeof, unranked
-from tests.planning import simple_plan
+from tests.planning import simple_plan, with_form
 from tests.things import BOXES, LIST, LIST8, N8, T, THIRTEEN, box, deep, maybe, record, refusal, row, use
 
 CHECKERS = (formfault, kindfault, ringfault, highfault, needfault, planfault)
@@ -38,7 +42,8 @@ class DepthTest(unittest.TestCase):
 
     def twice(self, call, *told):
         first = call(*told)
-        self.assertEqual(call(*told), first)
+        # Python's own comparison of tuples goes in by recursion.
+        self.assertTrue(alike(call(*told), first))
         return first
 
     def test_deep_things(self):
@@ -62,6 +67,42 @@ class DepthTest(unittest.TestCase):
         self.assertEqual(self.twice(sizeof, HIGH, kind, worth), 5 + 7 * 12)
         self.assertIs(self.twice(before, HIGH, kind, deep(3 + 7 * 12), worth), True)
         self.assertEqual(len(misfit(HIGH, kind, deep(280))), 5 + 7 * 12)
+
+    def far_plan(self):
+        """The plan of HIGH with each payload that may be so behind a pointer of its own."""
+        plan = planned(HIGH, use("h"))
+        for entry, (kind, form) in enumerate(plan):
+            if form[0] == "pick":
+                plan = with_form(plan, entry, ("pick", 16, 0, 16, 1, ((32768, 0, -1, False), (-1, 0, form[5][1][2], True))))
+        self.assertIsNone(planfault(HIGH, plan))
+        return plan
+
+    def test_deep_images(self):
+        worth = deep(4 + 7 * 12)
+        for plan in (planned(HIGH, use("h")), self.far_plan()):
+            image = self.twice(imaged, HIGH, plan, worth)
+            self.assertIsNone(self.twice(imagefault, plan, image))
+            self.assertEqual(self.twice(worth_of, plan, image), worth)
+            store = Store(HIGH, plan, room=2048)
+            store.fill(worth)
+            store.free(store.fill(()))
+            store.fill(worth)
+            store.free(1)
+            self.assertEqual(store.together(), weight(plan, image) // 8)
+            self.assertTrue(alike((store.worth(3), store.image(3)), (worth, image)))
+        self.assertEqual(len(store.blocks()), 13 + 4 + 7 * 12)
+
+    def test_deep_things_as_images_and_papers(self):
+        plan = self.far_plan()
+        for thing in DEEP:
+            for entry in range(len(plan)):
+                self.assertIsNotNone(self.twice(patternfault, plan, entry, thing))
+                self.assertIsNotNone(self.twice(imagefault, plan, thing))
+                self.assertIsNotNone(self.twice(imagefault, plan, (0, 0, (thing,))))
+            self.assertIsNotNone(self.twice(orderfault, thing, thing))
+            self.assertIsNotNone(self.twice(orderfault, ((1, 1), (8, 8)), thing))
+            self.assertIsNotNone(self.twice(orderfault, ((1, 1), (8, 8)), (9, (1, 0), thing)))
+        self.twice(fewest, ((9, 8), (3, 1), (12, 16), (4, 1), (64, 64)))
 
     def test_deep_kinds(self):
         self.assertEqual(self.twice(plainest, (), maybe(T, 7)), ())

@@ -26,6 +26,14 @@ ALLOWED_METHODS = """append clear copy count endswith extend find get index inse
     isspace isupper items join keys ljust lower lstrip partition pop remove replace reverse rfind rjust rpartition
     rsplit rstrip setdefault split splitlines startswith strip update upper values zfill bit_length add discard sort
     __init__""".split()
+BARRED_ATTRIBUTES = """items keys values pop update append clear extend insert remove reverse setdefault sort args encode
+    decode hex fromhex format format_map mro as_integer_ratio bit_count conjugate from_bytes is_integer
+    to_bytes""".split()
+CHANGING = ("append", "clear", "extend", "insert", "pop", "remove", "reverse", "setdefault", "update", "add", "discard",
+            "sort")
+DUNDERS = ("__init__", "__eq__", "__len__", "__str__", "__repr__")
+KEYWORDS = {"sorted": ("key", "reverse"), "min": ("key", "default"), "max": ("key", "default"), "sum": ("start",),
+            "enumerate": ("start",), "zip": ("strict",)}
 BUILTIN_METHODS = {name for kind in (str, int, list, dict, set, bytes, tuple) for name in dir(kind)}
 
 
@@ -187,6 +195,108 @@ class LanguageTest(unittest.TestCase):
                     if isinstance(node, ast.Raise):
                         self.assertIsInstance(node.exc, ast.Call)
                         self.assertIsInstance(node.exc.func, ast.Name)
+
+    def test_module_level(self):
+        for path, tree in TREES:
+            with self.subTest(file=path.name):
+                for number, node in enumerate(tree.body):
+                    if number == 0:
+                        self.assertIsInstance(node, ast.Expr)
+                        self.assertIsInstance(node.value.value, str)
+                        continue
+                    self.assertIsInstance(node, (ast.ImportFrom, ast.FunctionDef, ast.ClassDef, ast.Assign))
+                    if isinstance(node, ast.Assign):
+                        for inner in ast.walk(node.value):
+                            self.assertNotIsInstance(inner, (ast.Call, ast.ListComp, ast.Lambda))
+
+    def test_lists_and_dicts_at_module_level_are_only_read(self):
+        tables = {target.id for path, tree in TREES for node in tree.body if isinstance(node, ast.Assign)
+                  for target in node.targets if isinstance(node.value, (ast.Dict, ast.List))}
+        for path, tree in TREES:
+            with self.subTest(file=path.name):
+                allowed = set()
+                for node in ast.walk(tree):
+                    if isinstance(node, ast.Subscript) and isinstance(node.ctx, ast.Load):
+                        allowed.add(node.value)
+                    if isinstance(node, ast.Compare):
+                        allowed.update(node.comparators)
+                    if isinstance(node, (ast.For, ast.comprehension)):
+                        allowed.add(node.iter)
+                    if isinstance(node, ast.Call) and isinstance(node.func, ast.Name):
+                        if node.func.id in ("len", "list", "dict", "sorted"):
+                            allowed.update(node.args)
+                for node in ast.walk(tree):
+                    if isinstance(node, ast.Name) and isinstance(node.ctx, ast.Load) and node.id in tables:
+                        self.assertIn(node, allowed, node.id)
+
+    def test_methods_and_attributes(self):
+        methods, attributes = set(), set()
+        for path, tree in TREES:
+            for node in ast.walk(tree):
+                if isinstance(node, ast.ClassDef):
+                    methods.update(each.name for each in node.body if isinstance(each, ast.FunctionDef))
+                if isinstance(node, ast.Attribute) and isinstance(node.ctx, ast.Store):
+                    self.assertIsInstance(node.value, ast.Name)
+                    attributes.add(node.attr)
+        self.assertEqual(methods & attributes, set())
+        self.assertEqual((methods | attributes) & set(BARRED_ATTRIBUTES), set())
+        self.assertEqual({name for name in methods if name.startswith("_")} - set(DUNDERS), set())
+        own = methods | attributes | BUILTIN_METHODS
+        for path, tree in TREES:
+            for node in ast.walk(tree):
+                if isinstance(node, ast.Attribute):
+                    self.assertIn(node.attr, own)
+
+    def test_double_underscore_methods_change_nothing(self):
+        for path, tree in TREES:
+            for node in ast.walk(tree):
+                if isinstance(node, ast.FunctionDef) and node.name in DUNDERS[1:]:
+                    self.assertIsInstance(node.body[-1], ast.Return)
+                    for inner in ast.walk(node):
+                        self.assertNotIsInstance(inner, (ast.Assign, ast.AugAssign, ast.Delete))
+                        if isinstance(inner, ast.Attribute):
+                            self.assertNotIn(inner.attr, CHANGING)
+                        if isinstance(inner, ast.Return) and node.name == "__len__":
+                            self.assertEqual(inner.value.func.id, "len")
+
+    def test_finally(self):
+        for path, tree in TREES:
+            for node in ast.walk(tree):
+                if isinstance(node, ast.Try):
+                    for row in node.finalbody:
+                        self.assertIsInstance(row, ast.AugAssign)
+                        self.assertIsInstance(row.target, ast.Attribute)
+                        self.assertIsInstance(row.value, ast.Constant)
+
+    def test_keywords_of_builtins(self):
+        for path, tree in TREES:
+            for node in ast.walk(tree):
+                if isinstance(node, ast.Call) and isinstance(node.func, ast.Name) and node.func.id in dir(builtins):
+                    for keyword in node.keywords:
+                        self.assertIn(keyword.arg, KEYWORDS[node.func.id])
+
+    def test_what_is_gone_over_is_not_changed(self):
+        for path, tree in TREES:
+            for node in ast.walk(tree):
+                if not isinstance(node, ast.For):
+                    continue
+                over = ast.unparse(node.iter)
+                for inner in [each for row in node.body for each in ast.walk(row)]:
+                    if isinstance(inner, ast.Attribute) and inner.attr in CHANGING:
+                        self.assertNotEqual(ast.unparse(inner.value), over)
+                    if isinstance(inner, ast.Subscript) and not isinstance(inner.ctx, ast.Load):
+                        self.assertNotEqual(ast.unparse(inner.value), over)
+
+    def test_sets_are_told_on_the_spot(self):
+        for path, tree in TREES:
+            right = set()
+            for node in ast.walk(tree):
+                if isinstance(node, ast.Call) and isinstance(node.func, ast.Name) and node.func.id in ("len", "sorted"):
+                    right.update(node.args)
+            for node in ast.walk(tree):
+                is_call = isinstance(node, ast.Call) and isinstance(node.func, ast.Name) and node.func.id == "set"
+                if is_call or isinstance(node, (ast.Set, ast.SetComp)):
+                    self.assertIn(node, right)
 
 
 if __name__ == "__main__":
