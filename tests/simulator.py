@@ -115,7 +115,8 @@ class Simulator:
         return tuple(bits.to_bytes(self.room + 8, "little"))
 
     def told(self):
-        return (self.room, self.memory(), tuple((handle, self.places[(handle, ())][0]) for handle in sorted(self.images)))
+        roots = tuple((handle, self.places[(handle, ())][0]) for handle in sorted(self.images))
+        return (self.room, self.memory(), roots)
 
     def blocks(self):
         rows = []

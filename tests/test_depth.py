@@ -9,14 +9,18 @@ from packedforms.kinds import alike
 from packedforms.maker import planned
 from packedforms.needs import needfault, plainest
 from packedforms.orders import fewest, orderfault
+from packedforms.paths import meeting, part, path_end, replaced
 from packedforms.plancheck import planfault
+from packedforms.programs import programfault
 from packedforms.reaches import highfault, kindfault, ringfault
+from packedforms.sound import adopted, soundfault
 from packedforms.store import Store
+from packedforms.views import View, spot
 from packedforms.worths import before, coded, decoded, deepness, misfit, sizeof, unranked
 from tests.planning import simple_plan, with_form
 from tests.things import BOXES, LIST, LIST8, N8, T, THIRTEEN, box, deep, maybe, record, refusal, row, use
 
-CHECKERS = (formfault, kindfault, ringfault, highfault, needfault, planfault)
+CHECKERS = (formfault, kindfault, ringfault, highfault, needfault, planfault, programfault)
 DEEP = (deep(280), deep(280, 1), deep(270, "a"), deep(1, deep(279)), (deep(270), deep(270)), (T, deep(270)),
         ("nat", deep(270)), ("record", deep(270)), ("record", (("a", deep(270)),)), ("use", "list", deep(270)),
         ((T, ("slot", deep(270))),), ((deep(270), 1),), ((T, 1), (T, deep(270))))
@@ -73,7 +77,8 @@ class DepthTest(unittest.TestCase):
         plan = planned(HIGH, use("h"))
         for entry, (kind, form) in enumerate(plan):
             if form[0] == "pick":
-                plan = with_form(plan, entry, ("pick", 16, 0, 16, 1, ((32768, 0, -1, False), (-1, 0, form[5][1][2], True))))
+                arms = ((32768, 0, -1, False), (-1, 0, form[5][1][2], True))
+                plan = with_form(plan, entry, ("pick", 16, 0, 16, 1, arms))
         self.assertIsNone(planfault(HIGH, plan))
         return plan
 
@@ -103,6 +108,39 @@ class DepthTest(unittest.TestCase):
             self.assertIsNotNone(self.twice(orderfault, ((1, 1), (8, 8)), thing))
             self.assertIsNotNone(self.twice(orderfault, ((1, 1), (8, 8)), (9, (1, 0), thing)))
         self.twice(fewest, ((9, 8), (3, 1), (12, 16), (4, 1), (64, 64)))
+
+    def test_deep_stores(self):
+        plan = self.far_plan()
+        store = Store(HIGH, plan, room=2048)
+        worth = deep(4 + 7 * 12)
+        store.fill(worth)
+        self.assertIsNone(self.twice(soundfault, HIGH, plan, *store.told()))
+        self.assertTrue(alike(adopted(HIGH, plan, *store.told()).worth(1), worth))
+        path = (("some",),) * 12
+        view = View(store, 1, path)
+        self.assertTrue(alike(view.read(), deep(4 + 7 * 12 - 12)))
+        view.write(())
+        self.assertTrue(alike(store.worth(1), deep(12)))
+        view.write(deep(4 + 7 * 12 - 12))
+        self.assertTrue(alike(store.worth(1), worth))
+        self.assertEqual(len(view.where()), 3)
+        self.assertEqual(len(spot(plan, path)[0]), 12 + 2)
+        self.assertIsNone(soundfault(HIGH, plan, *store.told()))
+
+    def test_deep_things_as_bytes_and_paths(self):
+        plan = self.far_plan()
+        for thing in DEEP:
+            for told in ((thing, plan, 8, (0,) * 16, ()), (HIGH, thing, 8, (0,) * 16, ()), (HIGH, plan, thing, (), ()),
+                         (HIGH, plan, 8, thing, ()), (HIGH, plan, 8, (0,) * 16, thing),
+                         (HIGH, plan, 8, (0,) * 16, ((1, thing),))):
+                self.assertIsNotNone(self.twice(soundfault, *told))
+            self.assertEqual(refusal(path_end, HIGH, use("h"), thing)[0], "BadPath")
+            self.assertEqual(refusal(spot, plan, thing)[0], "BadPath")
+            self.assertEqual(refusal(part, HIGH, use("h"), (), thing)[0], "BadPath")
+            self.assertEqual(refusal(meeting, HIGH, use("h"), (), thing)[0], "BadPath")
+            self.assertEqual(refusal(replaced, (), T, True, (), thing), ("Misfit", ()))
+            self.assertIsNotNone(self.twice(programfault, (), (record(a=T), thing)))
+            self.assertIsNotNone(self.twice(programfault, (), (record(a=T), (thing,))))
 
     def test_deep_kinds(self):
         self.assertEqual(self.twice(plainest, (), maybe(T, 7)), ())

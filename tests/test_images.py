@@ -76,7 +76,8 @@ class RowsTest(unittest.TestCase):
 
     def test_runs(self):
         self.told(RUN, 0, ((at(0),), 0, 8, "truth", 1), ((at(1),), 24, 8, "truth", 1), ((at(2),), 48, 8, "truth", 1))
-        plan = ((row(2, record(a=N8, b=T)), ("run", 32, 1)), (record(a=N8, b=T), ("fields", 17, ((8, 2, F), (0, 3, F)))),
+        plan = ((row(2, record(a=N8, b=T)), ("run", 32, 1)), (record(a=N8, b=T),
+                                                              ("fields", 17, ((8, 2, F), (0, 3, F)))),
                 (N8, ("slot", 8)), (T, ("slot", 1)))
         self.told(plan, 0, ((at(0), field("a")), 8, 8, "number", 2), ((at(0), field("b")), 0, 1, "truth", 3),
                   ((at(1), field("a")), 40, 8, "number", 2), ((at(1), field("b")), 32, 1, "truth", 3))
@@ -246,7 +247,8 @@ class WorldsTest(unittest.TestCase):
         self.assertGreater(hosts, 20)
 
 
-SMALL = (maybe(T), maybe(maybe(T)), variant(a=nat(2), b=T, c=NONE), record(a=maybe(T), b=T), maybe(record(a=T, b=nat(2))),
+SMALL = (maybe(T), maybe(maybe(T)), variant(a=nat(2), b=T, c=NONE), record(a=maybe(T), b=T),
+         maybe(record(a=T, b=nat(2))),
          variant(a=maybe(T), b=T), row(2, nat(3)), variant(a=maybe(nat(3)), b=variant(c=T, d=NONE)), maybe(use("flag")),
          record(a=nat(2), b=variant(a=T)), row(3, variant(a=NONE, b=T)))
 
@@ -416,7 +418,8 @@ class ImageTest(unittest.TestCase):
         self.assertEqual(imaged(LIST, LIST_PLAN, ("cons", (1, ("cons", (0, ("nil", ())))))), chain(2))
         plan = simple_plan(BOXES, use("tree"))
         leaf = [imaged(BOXES, plan, ("leaf", number)) for number in range(4)]
-        fork = imaged(BOXES, plan, ("fork", (("fork", (("leaf", 0), ("leaf", 1))), ("fork", (("leaf", 2), ("leaf", 3))))))
+        fork = imaged(BOXES, plan, ("fork", (("fork", (("leaf", 0), ("leaf", 1))),
+                                             ("fork", (("leaf", 2), ("leaf", 3))))))
         self.assertEqual([each[2] for each in fork[2]], [tuple(leaf[:2]), tuple(leaf[2:])])
 
     def test_misfit(self):
@@ -441,7 +444,8 @@ class ImageTest(unittest.TestCase):
         self.assertEqual(weight(FAR, (0, 0, ((2, 1, ()), (3, 9, ())))), 24)
         self.assertEqual(weight(FAR, (2, 1, ())), 8)
         self.assertEqual(weight(((row(16, nat(64)), ("run", 64, 1)), (nat(64), ("slot", 64))), (0, 0, ())), 128)
-        self.assertEqual(weight(((row(2, nat(64)), ("run", 65 * 64 - 128, 1)), (nat(64), ("slot", 64))), (0, 0, ())), 512)
+        self.assertEqual(weight(((row(2, nat(64)), ("run", 65 * 64 - 128, 1)), (nat(64), ("slot", 64))), (0, 0, ())),
+                         512)
 
 
 class ImageFaultTest(unittest.TestCase):
@@ -449,7 +453,8 @@ class ImageFaultTest(unittest.TestCase):
         self.assertEqual(imagefault(plan, image, **named), (path, why))
 
     def test_image(self):
-        for image in NO_THINGS + ((0, 0), (0, 0, (), ()), (0, 0, None), (0, 0, 5), (0, 0, "ab"), (1, 0, ()), (-1, 0, ()),
+        for image in NO_THINGS + ((0, 0), (0, 0, (), ()), (0, 0, None), (0, 0, 5), (0, 0, "ab"), (1, 0, ()),
+                                  (-1, 0, ()),
                                   (F, 0, ()), (None, 0, ()), ("0", 0, ()), ((0,), 0, ()), "abc"):
             self.told(FIELDS, image, (), "image")
             self.told(LIST_PLAN, cons(1, image), TAIL, "image")
@@ -462,7 +467,8 @@ class ImageFaultTest(unittest.TestCase):
             fault = patternfault(FIELDS, 0, pattern)
             self.assertIsNotNone(fault)
             self.told(FIELDS, (0, pattern, ()), *fault)
-        for pattern, path, why in ((2, (), "tag"), (2 ** 48, (), "pattern"), (1 << 9, (), "gap"), (1 | 1 << 24, (), "gap"),
+        for pattern, path, why in ((2, (), "tag"), (2 ** 48, (), "pattern"), (1 << 9, (), "gap"),
+                                   (1 | 1 << 24, (), "gap"),
                                    (1 | 32768 << 32, TAIL, "point"), (None, (), "pattern")):
             self.told(LIST_PLAN, (0, pattern, ()), path, why)
             self.told(LIST_PLAN, cons(1, cons(2, (0, pattern, ()))), TAIL + TAIL + path, why)

@@ -26,8 +26,8 @@ ALLOWED_METHODS = """append clear copy count endswith extend find get index inse
     isspace isupper items join keys ljust lower lstrip partition pop remove replace reverse rfind rjust rpartition
     rsplit rstrip setdefault split splitlines startswith strip update upper values zfill bit_length add discard sort
     __init__""".split()
-BARRED_ATTRIBUTES = """items keys values pop update append clear extend insert remove reverse setdefault sort args encode
-    decode hex fromhex format format_map mro as_integer_ratio bit_count conjugate from_bytes is_integer
+BARRED_ATTRIBUTES = """items keys values pop update append clear extend insert remove reverse setdefault sort args
+    encode decode hex fromhex format format_map mro as_integer_ratio bit_count conjugate from_bytes is_integer
     to_bytes""".split()
 CHANGING = ("append", "clear", "extend", "insert", "pop", "remove", "reverse", "setdefault", "update", "add", "discard",
             "sort")

@@ -90,7 +90,8 @@ class PlacingTest(unittest.TestCase):
             parts = random_parts(dice, dice.randint(0, 8))
             order = falling(parts)
             self.assertEqual(list(order), sorted(range(len(parts)), key=lambda k: (-parts[k][1], k)))
-            self.assertLessEqual(bits_of(parts, order), sum(-(-size // multiple) * multiple for size, multiple in parts))
+            self.assertLessEqual(bits_of(parts, order), sum(-(-size // multiple) * multiple for size,
+                                                            multiple in parts))
 
 
 class FewestTest(unittest.TestCase):
@@ -164,12 +165,14 @@ class OrderFaultTest(unittest.TestCase):
                 self.right(((size, multiple),), (size, (0,), ()))
 
     def test_form(self):
-        for paper in NO_THINGS + ((18, (1, 0, 2)), (18, (1, 0, 2), (), ()), (True, (1, 0, 2), ()), (None, (1, 0, 2), ()),
+        for paper in NO_THINGS + ((18, (1, 0, 2)), (18, (1, 0, 2), (), ()), (True, (1, 0, 2), ()),
+                                  (None, (1, 0, 2), ()),
                                   ("18", (1, 0, 2), ()), ((18,), (1, 0, 2), ()), "abc"):
             self.told(self.PARTS, paper, "form")
 
     def test_order(self):
-        for order in NO_THINGS + ((0, 1), (0, 1, 2, 3), (0, 1, 1), (0, 1, 3), (0, 1, -1), (False, True, 2), (0, True, 2),
+        for order in NO_THINGS + ((0, 1), (0, 1, 2, 3), (0, 1, 1), (0, 1, 3), (0, 1, -1), (False, True, 2),
+                                  (0, True, 2),
                                   ("0", "1", "2"), (0, 1, None), (0, 1, (2,)), (0, 1, deep(270))):
             self.told(self.PARTS, (18, order, ()), "order")
         self.told((), (0, (0,), ()), "order")

@@ -12,7 +12,7 @@ from packedforms.store import Store
 from packedforms.worths import misfit
 from tests.simulator import NoRoom, Simulator
 from tests.test_images import FIELDS, LIST_PLAN, cons
-from tests.things import (LIST, LIST8, N8, N16, NONE, NO_THINGS, PARTS_1000, T, WRONG_BOOK, box, deep, maybe, nat, record,
+from tests.things import (LIST, LIST8, N8, N16, NO_THINGS, PARTS_1000, T, WRONG_BOOK, box, deep, maybe, nat, record,
                           refusal, row, use, variant)
 from tests.worlds import BOOK, random_world, random_worth
 
@@ -56,7 +56,8 @@ class MakingTest(unittest.TestCase):
             self.assertEqual(refusal(Store, (), FIELDS, room=room), ("BadStore", "room", -1, ()))
 
     def test_bad_plans_ahead_of_rooms(self):
-        for book, plan in (((), None), (WRONG_BOOK, FIELDS), ((), FIELDS[:2]), (None, None), (LIST, ()), ((), deep(280)),
+        for book, plan in (((), None), (WRONG_BOOK, FIELDS), ((), FIELDS[:2]), (None, None), (LIST, ()),
+                           ((), deep(280)),
                            ((), ((T, ("slot", 3)),)), (deep(280), FIELDS)):
             for room in (512, 7, None):
                 self.assertEqual(refusal(Store, book, plan, room=room), ("BadPlan",) + planfault(book, plan))

@@ -5,7 +5,7 @@ from packedforms.needs import plainest
 from packedforms.plancheck import planfault
 from packedforms.plans import align, part_align, part_size, part_spares, size
 from packedforms.reaches import heights, kindfault, reach
-from tests.things import BOXES, LIST, NONE, T, box, hole, maybe, nat, record, row, use, variant, whole
+from tests.things import BOXES, LIST, NONE, T, box, hole, maybe, nat, record, row, use, whole
 
 BOOK = LIST + BOXES + (("pair", ("a", "b"), record(one=hole("a"), two=hole("b"))), ("flag", (), T))
 
