@@ -3,7 +3,7 @@
 from packedforms.errors import Full
 from packedforms.images import bits_at, mask_at, points_of, sheets_weight, walk_over
 from packedforms.kinds import is_between
-from packedforms.plans import POINT, block, plan_web, size
+from packedforms.plans import POINT, ROOT, block, plan_web, size
 
 ROOM = 512
 MOST_ROOM = 2048
@@ -63,6 +63,21 @@ def used_bytes(heap):
     return sum([block(heap.plan, entry) for entry in heap.standing.values()])
 
 
+def part_number(heap, address, at, wide):
+    """The number in so many bits of a block, from bit at on."""
+    first, bit = divmod(at, 8)
+    return bits_at(number_at(heap.memory, address + first, (bit + wide + 7) // 8), bit, wide)
+
+
+def write_bits(heap, address, at, wide, number):
+    """Writes a number into so many bits of a block, from bit at on; no other bit changes."""
+    first, bit = divmod(at, 8)
+    start = address + first
+    many = (bit + wide + 7) // 8
+    old = number_at(heap.memory, start, many)
+    heap.memory[start:start + many] = bytes_of(old & ~mask_at(bit, wide) | number << bit, many)
+
+
 def points_in(plan, entry, pattern):
     """The points of a pattern: rows (place, entry to which it leads, address)."""
     points = points_of(walk_over(plan, entry, pattern).slots)
@@ -77,25 +92,30 @@ def with_points(pattern, places, addresses):
     return number
 
 
-def blocks_from(heap, starts):
-    """The blocks at these (entry, address), each with all that is behind it ahead of the next: rows (entry, address,
-    number with its points 0, above, at), as sheets have them; above is -1 for each of the starts."""
+def part_rows(heap, entry, address, at):
+    """A part that lies in a block from bit at on, and all blocks behind it, each ahead of those behind its points: rows
+    (entry, address, number with its points 0, above, place of the point), as sheets have them."""
     found = []
-    left = [(entry, address, -1, 0) for entry, address in starts][::-1]
+    left = [(entry, address, at, -1, 0)]
     while left:
-        entry, address, above, at = left.pop()
-        number = number_at(heap.memory, address, block(heap.plan, entry))
-        points = points_in(heap.plan, entry, number)
-        rows = [(inner, target, len(found), place) for place, inner, target in points]
-        bare = with_points(number, [point[0] for point in points], [0 for point in points])
-        found.append((entry, address, bare, above, at))
+        inner, place, bit, above, point = left.pop()
+        number = part_number(heap, place, bit, size(heap.plan, inner))
+        points = points_in(heap.plan, inner, number)
+        rows = [(target, goal, 0, len(found), each) for each, target, goal in points]
+        bare = with_points(number, [each[0] for each in points], [0 for each in points])
+        found.append((inner, place, bare, above, point))
         left.extend(rows[::-1])
     return found
 
 
-def kept_sheets(heap, entry, address):
-    """The sheets of the image that is kept in the block at an address and behind it."""
-    return [(inner, bare, above, at) for inner, place, bare, above, at in blocks_from(heap, [(entry, address)])]
+def part_sheets(heap, entry, address, at):
+    """The sheets of the image of a part that lies in a block from bit at on."""
+    return [(inner, bare, above, point) for inner, place, bare, above, point in part_rows(heap, entry, address, at)]
+
+
+def root_rows(heap, handle):
+    """All blocks of a root, rows as part_rows tells them."""
+    return part_rows(heap, ROOT, heap.roots[handle], 0)
 
 
 def first_fit(heap, many):
@@ -115,14 +135,19 @@ def give_back(heap, addresses):
         del heap.standing[address]
 
 
-def move_together(heap):
-    """Moves all blocks together and tells how many have another address than before."""
-    old = sorted(heap.standing)
+def goals_together(heap):
+    """The address that each standing block has once all are moved together."""
     goals = {}
     end = STEP
-    for address in old:
+    for address in sorted(heap.standing):
         goals[address] = end
         end += block(heap.plan, heap.standing[address])
+    return goals
+
+
+def move_blocks(heap, goals):
+    """Moves all blocks, in their order, to these addresses; points and roots follow."""
+    old = sorted(heap.standing)
     numbers = [followed(heap, address, goals) for address in old]
     entries = [heap.standing[address] for address in old]
     heap.memory = [0 for byte in heap.memory]
@@ -131,7 +156,13 @@ def move_together(heap):
         write_block(heap, goals[address], number)
     for handle in list(heap.roots):
         heap.roots[handle] = goals[heap.roots[handle]]
-    return len([address for address in old if goals[address] != address])
+
+
+def move_together(heap):
+    """Moves all blocks together and tells how many have another address than before."""
+    goals = goals_together(heap)
+    move_blocks(heap, goals)
+    return len([address for address in goals if goals[address] != address])
 
 
 def followed(heap, address, goals):
@@ -154,14 +185,16 @@ def take_once(heap, entries):
     return addresses
 
 
-def take(heap, entries):
-    """Takes blocks of these entries, that have room at least once all is moved together, and tells their addresses."""
+def take(heap, entries, held):
+    """Takes blocks of these entries, that have room at least once all is moved together, and tells their addresses,
+    and ahead of these where the block is by then that was at the address held."""
     addresses = take_once(heap, entries)
-    if len(addresses) < len(entries):
-        give_back(heap, addresses)
-        move_together(heap)
-        addresses = take_once(heap, entries)
-    return addresses
+    if len(addresses) == len(entries):
+        return [held] + addresses
+    give_back(heap, addresses)
+    goals = goals_together(heap)
+    move_blocks(heap, goals)
+    return [goals.get(held, held)] + take_once(heap, entries)
 
 
 def refuse_full(heap, sheets, given):
@@ -184,7 +217,8 @@ def pointed(sheets, addresses):
 def keep_root(heap, handle, sheets):
     """Takes blocks for the sheets of a worth, writes it there and keeps its address under a handle."""
     refuse_full(heap, sheets, 0)
-    addresses = take(heap, [sheet[0] for sheet in sheets])
+    # No block is held, as there is none of this root yet.
+    addresses = take(heap, [sheet[0] for sheet in sheets], 0)[1:]
     for address, pattern in zip(addresses, pointed(sheets, addresses)):
         write_block(heap, address, pattern)
     heap.roots[handle] = addresses[0]
@@ -192,8 +226,7 @@ def keep_root(heap, handle, sheets):
 
 def drop_root(heap, handle):
     """Gives back all blocks of a root."""
-    rows = blocks_from(heap, [(0, heap.roots[handle])])
-    give_back(heap, [row[1] for row in rows])
+    give_back(heap, [row[1] for row in root_rows(heap, handle)])
     del heap.roots[handle]
 
 
@@ -201,24 +234,18 @@ def block_reached(heap, handle, hops):
     """The address of the block to which the points at these places lead, from a root's block on."""
     address = heap.roots[handle]
     for at in hops:
-        address = bits_at(block_number(heap, address), at, POINT)
+        address = part_number(heap, address, at, POINT)
     return address
 
 
-def write_part(heap, handle, spot, sheets):
-    """Writes the sheets of a worth over the part at a spot (hops, at, entry) of a root."""
-    hops, at, entry = spot
-    wide = size(heap.plan, entry)
-    old = bits_at(block_number(heap, block_reached(heap, handle, hops)), at, wide)
-    starts = [(inner, target) for place, inner, target in points_in(heap.plan, entry, old)]
-    behind = blocks_from(heap, starts)
+def write_part(heap, address, at, sheets):
+    """Writes the sheets of a worth over a part of the same entry that lies in a block from bit at on."""
+    behind = part_rows(heap, sheets[0][0], address, at)[1:]
     refuse_full(heap, sheets[1:], sum([block(heap.plan, row[0]) for row in behind]))
     give_back(heap, [row[1] for row in behind])
-    taken = take(heap, [sheet[0] for sheet in sheets[1:]])
-    # Only now, as the taking may have moved the block.
-    address = block_reached(heap, handle, hops)
-    patterns = pointed(sheets, [address] + taken)
-    number = block_number(heap, address) & ~mask_at(at, wide) | patterns[0] << at
-    write_block(heap, address, number)
-    for place, pattern in zip(taken, patterns[1:]):
+    # The taking may move the block in which the part lies.
+    addresses = take(heap, [sheet[0] for sheet in sheets[1:]], address)
+    patterns = pointed(sheets, addresses)
+    write_bits(heap, addresses[0], at, size(heap.plan, sheets[0][0]), patterns[0])
+    for place, pattern in zip(addresses[1:], patterns[1:]):
         write_block(heap, place, pattern)

@@ -183,11 +183,16 @@ def formfault(book, thing):
     return closed_fault(book, thing)
 
 
-def refuse_unformed(book, kind):
-    """Refuses what is no book, then what is no closed kind under it."""
+def refuse_book(book):
+    """Refuses what is no book."""
     fault = bookfault(book)
     if fault is not None:
         raise BadBook(fault[0], fault[1])
+
+
+def refuse_unformed(book, kind):
+    """Refuses what is no book, then what is no closed kind under it."""
+    refuse_book(book)
     fault = closed_fault(book, kind)
     if fault is not None:
         raise BadKind(fault[0], fault[1])

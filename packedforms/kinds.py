@@ -21,10 +21,7 @@ def is_tuple_of(thing, many):
 
 def power(bits):
     """2 to the power of bits."""
-    number = 1
-    for each in range(bits):
-        number += number
-    return number
+    return 1 << bits
 
 
 def alike(one, other):

@@ -90,11 +90,17 @@ def refuse_misfit(web, worth):
         raise Misfit(misfit_path)
 
 
+def rebuilt(rows, other):
+    """The whole with another part at the end of a way, told by its rows (worth, place in it)."""
+    whole = other
+    for thing, place in rows[::-1]:
+        whole = thing[:place] + (whole,) + thing[place + 1:]
+    return whole
+
+
 def replaced_in(web, worth, path, other):
     """The worth with another part at a path."""
-    whole = other
-    for thing, place in gone_through(web, worth, path)[0][::-1]:
-        whole = thing[:place] + (whole,) + thing[place + 1:]
+    whole = rebuilt(gone_through(web, worth, path)[0], other)
     refuse_misfit(web, whole)
     return whole
 

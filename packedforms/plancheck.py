@@ -1,6 +1,7 @@
 """The look at plans: whether one holds, and if not, its first fault."""
 
 from packedforms.books import bookfault, closed_fault, parts_of
+from packedforms.errors import BadPlan
 from packedforms.kinds import PLAIN_WORDS, is_between, is_tuple_of, is_whole, power, shown
 from packedforms.plans import MOST_SIZE, SLOT_WIDES, align, bits_in, entries_named, host_slots, own_parts, part_align
 from packedforms.plans import part_size, size, tag_align
@@ -238,3 +239,10 @@ def planfault(book, plan):
     if fault is None:
         fault = late_fault(plan)
     return fault
+
+
+def refuse_plan(book, plan):
+    """Refuses a plan that doesn't hold."""
+    fault = planfault(book, plan)
+    if fault is not None:
+        raise BadPlan(fault[0], fault[1])

@@ -1,6 +1,7 @@
 """Programs that walk over a worth of a record: whether a thing is one, and if not, its first fault."""
 
 from packedforms.books import bookfault
+from packedforms.errors import BadProgram
 from packedforms.kinds import alike, is_between, is_tuple_of, power
 from packedforms.needs import MOST_BOXES
 from packedforms.paths import stepped
@@ -313,3 +314,10 @@ def programfault(book, thing):
         return ((0,), "frame")
     reading = Reading(book, standing_web(book, frame))
     return rows_fault(reading, rows, (1,), 0)
+
+
+def refuse_program(book, program):
+    """Refuses what is no program."""
+    fault = programfault(book, program)
+    if fault is not None:
+        raise BadProgram(fault[0], fault[1])

@@ -1,6 +1,6 @@
 """Sound bytes: whether a room of bytes and roots is a store's, and stores made of such."""
 
-from packedforms.blocks import STEP, blocks_from, is_room, number_at
+from packedforms.blocks import STEP, is_room, number_at, root_rows
 from packedforms.errors import BadStore
 from packedforms.images import bits_at, has_gap, points_of, slots_fault, walk_over
 from packedforms.kinds import is_between, is_tuple_of, is_whole
@@ -114,6 +114,6 @@ def adopted(book, plan, room, memory, roots):
     for handle, address in roots:
         heap.roots[handle] = address
         store.following = handle + 1
-    for entry, address, bare, above, at in blocks_from(heap, [(ROOT, place) for handle, place in roots]):
-        heap.standing[address] = entry
+        for row in root_rows(heap, handle):
+            heap.standing[row[1]] = row[0]
     return store

@@ -1,11 +1,11 @@
 """The store: worths of a plan's root kept in a flat room of bytes under handles."""
 
-from packedforms.blocks import ROOM, Heap, drop_root, is_room, keep_root, kept_sheets, move_together, used_bytes
-from packedforms.errors import BadPlan, BadStore, Misfit, NoHandle
+from packedforms.blocks import ROOM, Heap, drop_root, is_room, keep_root, move_together, part_sheets, used_bytes
+from packedforms.errors import BadStore, Misfit, NoHandle
 from packedforms.images import laid_sheets, sheets_image, sheets_worth
 from packedforms.kinds import alike, is_whole
 from packedforms.needs import MOST_BOXES, MOST_WORTH
-from packedforms.plancheck import planfault
+from packedforms.plancheck import refuse_plan
 from packedforms.plans import ROOT, block
 from packedforms.worths import toured
 
@@ -13,7 +13,7 @@ from packedforms.worths import toured
 def root_sheets(heap, handle):
     """The sheets of the root that has a handle; refuses what is no handle."""
     refuse_unknown(heap, handle)
-    return kept_sheets(heap, ROOT, heap.roots[handle])
+    return part_sheets(heap, ROOT, heap.roots[handle], 0)
 
 
 def refuse_unknown(heap, handle):
@@ -44,9 +44,7 @@ class Store:
     """Worths of the kind of a plan's root, kept in bytes."""
 
     def __init__(self, book, plan, *, room=ROOM):
-        fault = planfault(book, plan)
-        if fault is not None:
-            raise BadPlan(fault[0], fault[1])
+        refuse_plan(book, plan)
         if not is_room(room):
             raise BadStore("room", -1, ())
         self.book = book

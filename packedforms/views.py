@@ -66,8 +66,8 @@ def write_through(view, worth):
     heap = store.heap
     # Only its refusals are wanted: the whole is never laid anew.
     replaced_in(heap.web, store.worth(view.handle), view.path, worth)
-    goal = spot(heap.plan, view.path)
-    write_part(heap, view.handle, goal, laid_sheets(heap.plan, goal[2], worth))
+    hops, at, entry = spot(heap.plan, view.path)
+    write_part(heap, block_reached(heap, view.handle, hops), at, laid_sheets(heap.plan, entry, worth))
 
 
 def step_text(step):
