@@ -4,8 +4,15 @@ import sys
 import unittest
 
 from packedforms.books import bookfault, formfault
+from packedforms.casts import cast, read_grown, recast, regrown
+from packedforms.codelook import codefault
+from packedforms.compiler import compiled
+from packedforms.growcheck import growfault
+from packedforms.growmaker import growth
+from packedforms.growth import chained, grown, shrunk
 from packedforms.images import imaged, imagefault, patternfault, weight, worth_of
 from packedforms.kinds import alike
+from packedforms.machine import run
 from packedforms.maker import planned
 from packedforms.needs import needfault, plainest
 from packedforms.orders import fewest, orderfault
@@ -16,6 +23,7 @@ from packedforms.reaches import highfault, kindfault, ringfault
 from packedforms.sound import adopted, soundfault
 from packedforms.store import Store
 from packedforms.views import View, spot
+from packedforms.walker import walked
 from packedforms.worths import before, coded, decoded, deepness, misfit, sizeof, unranked
 from tests.planning import simple_plan, with_form
 from tests.things import BOXES, LIST, LIST8, N8, T, THIRTEEN, box, deep, maybe, record, refusal, row, use
@@ -141,6 +149,55 @@ class DepthTest(unittest.TestCase):
             self.assertEqual(refusal(replaced, (), T, True, (), thing), ("Misfit", ()))
             self.assertIsNotNone(self.twice(programfault, (), (record(a=T), thing)))
             self.assertIsNotNone(self.twice(programfault, (), (record(a=T), (thing,))))
+
+    def test_deep_things_as_code_and_papers(self):
+        plan = self.far_plan()
+        for thing in DEEP:
+            for code in (thing, (thing,), (("put", 0, thing), ("end",)), (("frame",), ("put", 0, thing), ("end",)),
+                         (("turn", thing), ("end",)), (("number", thing), ("end",))):
+                self.assertIsNotNone(self.twice(codefault, HIGH, plan, code))
+            for told in ((thing, (), ()), ((), thing, ()), (HIGH, HIGH, thing), (HIGH, HIGH, (thing,)),
+                         (HIGH, HIGH, ((T, T, thing),)), (HIGH, HIGH, ((thing, T, ("truth",)),)),
+                         (HIGH, HIGH, ((row(1, T), row(2, T), ("row", 1, (thing,))), (T, T, ("truth",))))):
+                self.assertIsNotNone(self.twice(growfault, *told))
+            store = Store(HIGH, plan)
+            self.assertEqual(refusal(run, store, thing, ())[0], "NoHandle")
+            self.assertEqual(refusal(recast, store, thing)[0], "BadPlan")
+            self.assertEqual(refusal(regrown, store, thing, plan, ())[0], "BadBook")
+            self.assertEqual(refusal(cast, plan, plan, thing)[0], "BadImage")
+
+    def test_deep_states(self):
+        frame = record(x=use("h"), y=use("h"))
+        x, y = (("field", "x"),), (("field", "y"),)
+        program = (frame, (("copy", y, x), ("show", y), ("swap", x, y), ("put", x, ()), ("show", ())))
+        worth = deep(4 + 7 * 12)
+        state = (worth, ())
+        for wishes in ({}, {"great": 16, "spare": False, "bits": False}):
+            plan = planned(HIGH, frame, **wishes)
+            due = self.twice(lambda: walked(HIGH, program, state, plan=plan, room=2048))
+            self.assertEqual(due[1], "done")
+            store = Store(HIGH, plan, room=2048)
+            store.fill(state)
+            code = self.twice(compiled, HIGH, plan, program)
+            self.assertTrue(alike(run(store, 1, code), due[:4]))
+            self.assertTrue(alike(store.worth(1), ((), worth)))
+
+    def test_deep_growing(self):
+        other = (("h", (), maybe(box(use("g")), 5)), ("g", (), maybe(use("h"), 2)))
+        paper = self.twice(growth, HIGH, use("h"), other, use("h"))
+        worth = deep(4 + 7 * 12)
+        self.assertTrue(alike(self.twice(grown, paper, worth), worth))
+        self.assertTrue(alike(self.twice(shrunk, paper, worth), worth))
+        self.assertTrue(alike(self.twice(grown, self.twice(chained, paper, paper), worth), worth))
+        one, two = planned(HIGH, use("h")), self.far_plan()
+        image = imaged(HIGH, one, worth)
+        self.assertTrue(alike(self.twice(cast, one, two, image), imaged(HIGH, two, worth)))
+        self.assertTrue(alike(self.twice(read_grown, one, image, paper), worth))
+        store = Store(HIGH, one, room=2048)
+        store.fill(worth)
+        recast(store, two)
+        regrown(store, other, planned(other, use("h")), paper)
+        self.assertTrue(alike(store.worth(1), worth))
 
     def test_deep_kinds(self):
         self.assertEqual(self.twice(plainest, (), maybe(T, 7)), ())

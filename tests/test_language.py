@@ -179,7 +179,9 @@ class LanguageTest(unittest.TestCase):
                         self.assertEqual(node.decorator_list, [])
                     if isinstance(node, ast.Try):
                         for handler in node.handlers:
-                            self.assertNotIn(handler.type.id, dir(builtins))
+                            several = isinstance(handler.type, ast.Tuple)
+                            for name in handler.type.elts if several else [handler.type]:
+                                self.assertNotIn(name.id, dir(builtins))
 
     def test_methods_of_builtin_values(self):
         for path, tree in TREES:
