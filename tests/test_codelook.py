@@ -302,6 +302,9 @@ class CodeTest(unittest.TestCase):
             self.told((TURN, ("jump", goal), END), 1, "jump")
             self.told((YES, ("unless", goal), END), 1, "jump")
         self.told((("jump", 2), END), 0, "jump")
+        # Nor is the last one meant by a number below 0, though it is a turn.
+        self.told((("jump", -1), TURN), 0, "jump")
+        self.told((YES, ("unless", -1), TURN), 1, "jump")
         self.told((TURN, ("jump", 2)), 1, "jump")
 
     def test_no_row_behind(self):

@@ -235,6 +235,16 @@ class GrowthTest(unittest.TestCase):
             self.refused(one, other, (field("e"),), "many", old, new)
         self.assertEqual(len(self.paper(record(**names), record(**names), old, new)), 60)
 
+    def test_a_some_step_asks_for_the_new_part_alone(self):
+        """The 60th pair is by a some step, and the old one's part that can't be seen is that of the 61st."""
+        old, new = self.ring(7)[0] + BOXES[:2], self.ring(8)[0]
+        names = {"a": use("a"), "b": nat(1), "c": nat(2)}
+        one, other = record(**names, e=record(x=THIRTEEN)), record(**names, e=maybe(record(x=T)))
+        self.refused(one, other, (field("e"),), "many", old, new)
+        del names["c"]
+        one, other = record(**names, e=record(x=THIRTEEN)), record(**names, e=maybe(record(x=T)))
+        self.refused(one, other, (field("e"),), "kind", old, new)
+
     def test_both_ways_of_a_book(self):
         self.assertIsNone(growfault((), (), growth((), OLD, (), NEW, renamed=(("a", "z"),))))
         worth = (5, ("x", True), (1, 2), (False,), True)

@@ -97,6 +97,17 @@ class RunTest(unittest.TestCase):
             for other in (True, False):
                 self.says((("truth", one), ("truth", other), ("like",)), one == other, True)
 
+    def test_truths_are_1_and_0(self):
+        for one in (True, False):
+            self.says((("truth", one), ("not",), ("not",)), one, True)
+            self.says((("truth", one), ("not",), ("truth", True), ("like",)), not one, True)
+            self.says((("number", 5), ("number", 5 if one else 6), ("like",), ("truth", True), ("like",)), one, True)
+            rows = (("truth", one), ("not",), ("unless", 6), ("number", 0), ("say", False), END, ONE, ("say", False),
+                    END)
+            self.told(rows, (1 if one else 0,))
+            rows = (("truth", one), ("not",), *to(M), ("arm", E_M, 1), ("keep", E_T), END)
+            self.told(rows, left=WORTH[:4] + ((not one,), 99))
+
     def test_nought(self):
         for word in ("div", "rem"):
             self.told((ONE, ("number", 0), (word,), END), (), "nought")
@@ -350,12 +361,34 @@ class EndsTest(unittest.TestCase):
             self.both((), crowded(names), (("swap", (field("b"),), (field("a"),)),), worth, room=2048)
             self.both((), crowded(names), (("put", (field("b"),), ()), ("put", (field("a"),), ())), worth, room=2048)
 
+    def test_deep_by_one_part(self):
+        for names, many, end in (("t", 1, "deep"), ("", 1, "done"), ("", 2, "deep")):
+            kind = ("record", crowded(names)[1] + (("m", maybe(T)), ("n", maybe(T))))
+            # 999 parts, and one more for the name.
+            worth = ((CROWD,), (CROWD,), (True,) * 15) + (True,) * len(names) + ((), ())
+            rows = tuple(("put", (field(name),), (True,)) for name in "mn"[:many])
+            self.both((), kind, rows, worth, room=2048, end=end)
+
     def test_deep_ahead_of_full(self):
         worth = (numbers(*range(12)), numbers(1))
         plan = planned(LIST, self.lists)
         room = weight(plan, imaged(LIST, plan, worth))
         self.both(LIST, self.lists, (("copy", self.b + TAIL, self.a),), worth, plan, room, end="deep")
         self.both(LIST, self.lists, (("copy", self.b, self.a),), worth, plan, room, end="full")
+
+    def test_picks_at_places_that_end(self):
+        """Whatever rows the arms have, the place is gone to."""
+        frame = record(r=row(2, variant(a=T)), s=row(2, variant(a=T, b=T)), m=row(2, maybe(T)), n=N8)
+        index = (at(get((field("n"),))),)
+        for n, end in ((0, "done"), (1, "done"), (2, "row"), (255, "row")):
+            worth = ((("a", True),) * 2, (("a", True), ("b", True)), ((), (True,)), n)
+            for inner in ((), (SAY,)):
+                for place, names in ((field("r"), "a"), (field("s"), "ab"), (field("m"), ("none", "some"))):
+                    for filled in range(len(names) + 1):
+                        pairs = tuple((name, inner if number < filled else ()) for number, name in enumerate(names))
+                        self.both((), frame, (("pick", (place,) + index, pairs), SAY), worth, end=end)
+                        self.both((), frame, (("pick", (place,) + index, pairs[:-1] + ((names[-1], inner),)),), worth,
+                                  end=end)
 
     def test_full(self):
         worth = (numbers(1, 2), NIL)
