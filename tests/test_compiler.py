@@ -172,28 +172,32 @@ class CompiledTest(unittest.TestCase):
         self.code((("show", place),) * 30)
         self.code((("swap", place, place),) * 15 + (SAY,) * 25)
 
-    def test_long_ways(self):
-        """Places behind dozens of uses and boxes, in picks of eight arms."""
+    def long_book(self, per, rows):
+        """A book whose a leads through six boxes and six times as many uses as told to a record that leads on to it."""
         names = "abcdef"
-        same = ("id", ("x",), hole("x"))
-        chain = []
+        book = [("id", ("x",), hole("x"))]
         for place, name in enumerate(names):
-            kind = box(use(names[place + 1])) if place < 5 else box(use("end"))
-            for each in range(5):
+            kind = box(use(names[place + 1] if place < 5 else "last"))
+            for each in range(per):
                 kind = use("id", kind)
-            chain.append((name, (), kind))
-        arms = {name: T for name in "abcdefgh"}
-        last = ("end", (), record(n=nat(4), next=use("a"), r=row(2, row(2, variant(**arms)))))
-        book = (same,) + tuple(chain) + (last,)
-        frame = record(s=use("end"), m=maybe(use("a")))
-        self.assertEqual(programfault(book, (frame, ())), None)
+            book.append((name, (), kind))
+        choice = variant(**{name: T for name in "abcdefgh"})
+        for many in rows:
+            choice = row(many, choice)
+        return tuple(book) + (("last", (), record(n=nat(4), next=use("a"), r=choice)),)
+
+    def test_long_ways(self):
+        """Picks of eight arms behind dozens of uses and boxes, with as much to be reckoned as there can be."""
+        frame = record(s=use("a"))
         n = get((field("s"), field("next"), field("n")))
-        pairs = tuple((name, (SAY,)) for name in "abcdefgh")
-        place = (field("s"), field("next"), field("r"), at(("rem", n, number(2))),
-                 at(("rem", ("add", n, n), number(2))))
-        code = self.code((("pick", place, pairs),) * 4, frame, book)
-        self.assertGreater(len(code), 5000)
-        self.assertLessEqual(len(code), MOST_ROWS)
+        pairs = tuple((name, (("show", ()),)) for name in "abcdefgh")
+        for per, rows, gets in ((6, (2, 2, 2, 2), (5, 4, 4, 4)), (6, (16, 2), (8, 8)), (6, (5, 3, 2), (6, 5, 5)),
+                                (6, (16,), (15,)), (6, (1, 1, 1, 1, 16), (1, 1, 1, 1, 13))):
+            book = self.long_book(per, rows)
+            place = (field("s"), field("next"), field("r")) + tuple(at(sum_of([n] * many)) for many in gets)
+            code = self.code((("pick", place, pairs),) * 4, frame, book)
+            self.assertGreater(len(code), 10000)
+            self.assertLessEqual(len(code), MOST_ROWS)
 
 
 class RefusalTest(unittest.TestCase):

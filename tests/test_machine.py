@@ -520,6 +520,91 @@ class BesideTheWalkTest(unittest.TestCase):
         self.assertEqual(run(store, 1, compiled(LIST, plan, endless)), ((), "dry", (1, 0), 500))
 
 
+class KnownNumbersTest(unittest.TestCase):
+    """Picks whose numbers take so long to reckon that they are reckoned digit by digit, and told again by the way."""
+
+    def setUp(self):
+        chain = nat(8)
+        self.book = [("id", ("x",), hole("x"))]
+        for name in "abcd":
+            for each in range(6):
+                chain = use("id", chain)
+            self.book.append((name, (), box(chain)))
+            chain = use(name)
+        self.book = tuple(self.book)
+        self.kind = use("d")
+
+    def beside(self, frame, rows, worths, due_ends):
+        program = (frame, rows)
+        self.assertIsNone(programfault(self.book, program))
+        plan = planned(self.book, frame)
+        code = compiled(self.book, plan, program)
+        self.assertIsNone(codefault(self.book, plan, code))
+        # Nothing is divided but where a number is told digit by digit.
+        self.assertIn(("div",), code)
+        ends = set()
+        for worth in worths:
+            store = Store(self.book, plan, room=1024)
+            store.fill(worth)
+            due = walked(self.book, program, worth, plan=plan, room=1024)
+            self.assertEqual(run(store, 1, code), due[:4])
+            self.assertEqual(store.worth(1), due[4])
+            ends.add(due[1])
+        self.assertEqual(ends, due_ends)
+
+    def arms(self, names, rows_of_arm):
+        return tuple((name, rows_of_arm(number)) for number, name in enumerate(names))
+
+    def test_one_number(self):
+        for many in (2, 3, 5, 9, 16):
+            frame = record(i=self.kind, v=row(many, variant(**{name: T for name in "abcdefgh"})))
+            i = get((field("i"),))
+            place = (field("v"), at(("sub", ("add", i, i), i)))
+            pick = ("pick", place, self.arms("abcdefgh", lambda each: (("say", number(each)),)))
+            things = tuple(("abcdefgh"[each % 8], True) for each in range(many))
+            worths = [(index, things[shift:] + things[:shift]) for index in (*range(many), many, 255)
+                      for shift in range(many)]
+            self.beside(frame, (pick, SAY), worths, {"done", "row"})
+
+    def test_several_numbers(self):
+        frame = record(i=self.kind, j=self.kind, v=row(3, row(2, variant(**{name: N8 for name in "abcdefgh"}))))
+        things = tuple((name, each) for each, name in enumerate("abcdefgh"))
+        worths = [(i, j, tuple(tuple(things[(2 * a + b + shift) % 8] for b in range(2)) for a in range(3)))
+                  for i in range(5) for j in range(4) for shift in range(8)]
+        for first, second in ("ij", "ji"):
+            place = (field("v"), at(get((field(first),))), at(get((field(second),))))
+            told = {0: (("put", place, ("h", 7)), ("show", place)), 1: (), 2: (("set", (field("i"),), number(9)), SAY),
+                    3: (("swap", (field("v"), at(number(0))), (field("v"), at(number(1)))),), 4: (SAY, SAY),
+                    5: (("copy", (field("v"), at(number(2))), (field("v"), at(number(1)))), ("show", ())),
+                    6: (("set", place + (arm("g"),), number(1)), ("say", ("rem", number(1), number(0)))),
+                    7: (("show", ()),)}
+            pick = ("pick", place, self.arms("abcdefgh", lambda each: told[each]))
+            self.beside(frame, (pick, pick, SAY), worths, {"done", "row", "nought"})
+
+    def test_known_numbers_beside_others(self):
+        """Only the numbers that take long are known; the others are reckoned each time, ahead of and behind them."""
+        choice = variant(**{name: T for name in "abcdefgh"})
+        frame = record(i=self.kind, k=N8, m=maybe(T), v=row(2, row(3, row(2, choice))))
+        i, k = get((field("i"),)), get((field("k"),))
+        long = ("rem", ("add", ("add", i, i), i), number(4))
+        place = (field("v"), at(k), at(long), at(("sub", number(1), k)))
+        pick = ("pick", place, self.arms("abcdefgh", lambda each: (("say", number(each)), ("put", (field("m"),), ()))))
+        things = tuple((name, True) for name in "abcdefgh") * 2
+        worths = [(i, k, (True,), tuple(tuple(things[shift + 3 * a + b:shift + 3 * a + b + 2] for b in range(3))
+                                        for a in range(2)))
+                  for i in range(6) for k in range(3) for shift in range(8)]
+        self.beside(frame, (pick, pick, SAY), worths, {"done", "row"})
+
+    def test_a_row_of_one_thing(self):
+        frame = record(i=self.kind, v=row(1, row(2, variant(**{name: T for name in "abcd"}))))
+        i = get((field("i"),))
+        place = (field("v"), at(("div", i, number(2))), at(i))
+        pick = ("pick", place, self.arms("abcd", lambda each: (("say", number(each)),)))
+        worths = [(i, ((("abcd"[one], True), ("abcd"[other], True)),)) for i in range(3) for one in range(4)
+                  for other in range(4)]
+        self.beside(frame, (pick, SAY), worths, {"done", "row"})
+
+
 class Scribe:
     """Writes code that codefault lets by: at each row one of those whose words fit the stacks."""
 
