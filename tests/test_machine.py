@@ -595,6 +595,19 @@ class KnownNumbersTest(unittest.TestCase):
                   for i in range(6) for k in range(3) for shift in range(8)]
         self.beside(frame, (pick, pick, SAY), worths, {"done", "row"})
 
+    def test_within_one_another(self):
+        """A while and a further pick in the rows of arms, while known numbers of the outer one are still there."""
+        frame = record(i=self.kind, k=N8, v=row(2, variant(**{name: T for name in "abcde"})))
+        i, k = get((field("i"),)), get((field("k"),))
+        place = (field("v"), at(i))
+        counting = ("while", ("less", k, number(3)), (("set", (field("k"),), ("add", k, number(1))), ("say", k)))
+        inner = ("pick", place, self.arms("abcde", lambda each: (("say", number(10 + each)),)))
+        told = {0: (SAY,), 1: (counting, inner), 2: (inner,), 3: (("while", YES, (inner,)),), 4: (inner,)}
+        pick = ("pick", place, self.arms("abcde", lambda each: told[each]))
+        worths = [(i, k, ((one, True), (other, False))) for i in range(3) for k in (0, 2, 5) for one in "abcde"
+                  for other in "ace"]
+        self.beside(frame, (pick, SAY), worths, {"done", "row", "dry"})
+
     def test_a_row_of_one_thing(self):
         frame = record(i=self.kind, v=row(1, row(2, variant(**{name: T for name in "abcd"}))))
         i = get((field("i"),))
