@@ -1,8 +1,8 @@
 """The compiler: code over bytes that does what a program does, whatever the plan."""
 
 from packedforms.books import refuse_book
-from packedforms.codemaker import Compiling, add_drop, add_expression, add_known, add_place, add_probe, lead_here
-from packedforms.codemaker import left_open, worth_knowing
+from packedforms.codemaker import Compiling, add_drops, add_expression, add_place, add_probe, lead_here, left_open
+from packedforms.codemoves import add_truths, is_shorter_at_once
 from packedforms.errors import BadProgram
 from packedforms.images import imaged
 from packedforms.kinds import alike
@@ -14,28 +14,28 @@ from packedforms.programs import refuse_program
 def add_set(compiling, statement, at):
     """Reckons, goes to the place and keeps it there."""
     add_expression(compiling, statement[2])
-    entry = add_place(compiling, statement[1], ())
+    entry = add_place(compiling, statement[1])
     compiling.code.append(("keep", entry))
 
 
 def add_put(compiling, statement, at):
     """Goes to the place and puts the image of a worth there."""
-    entry = add_place(compiling, statement[1], ())
+    entry = add_place(compiling, statement[1])
     image = imaged(compiling.book, compiling.plan, statement[2], entry=entry)
     compiling.code.append(("put", entry, image))
 
 
 def add_copy(compiling, statement, at):
     """Goes to where it is read, then to the place."""
-    add_place(compiling, statement[2], ())
-    entry = add_place(compiling, statement[1], ())
+    add_place(compiling, statement[2])
+    entry = add_place(compiling, statement[1])
     compiling.code.append(("copy", entry))
 
 
 def add_swap(compiling, statement, at):
     """Goes to the place, then to the other."""
-    add_place(compiling, statement[1], ())
-    entry = add_place(compiling, statement[2], ())
+    add_place(compiling, statement[1])
+    entry = add_place(compiling, statement[2])
     compiling.code.append(("swap", entry))
 
 
@@ -47,7 +47,7 @@ def add_say(compiling, statement, at):
 
 def add_show(compiling, statement, at):
     """Tells the part at a place."""
-    entry = add_place(compiling, statement[1], ())
+    entry = add_place(compiling, statement[1])
     compiling.code.append(("show", entry))
 
 
@@ -75,7 +75,7 @@ def add_while(compiling, statement, at):
 def arms_asked(pairs):
     """The numbers of the arms that a pick asks for, and of those that are there where no asked one is.
 
-    For each asking the place is gone to anew, so no more are asked for than it takes, but one at least."""
+    The place has to be gone to even where no arm has rows, so one is asked for at least."""
     filled = [number for number, (name, rows) in enumerate(pairs) if len(rows) > 0]
     if len(filled) == len(pairs) > 1:
         return (filled[:-1], filled[-1:])
@@ -83,34 +83,28 @@ def arms_asked(pairs):
 
 
 def add_pick(compiling, statement, at):
-    """Asks arm by arm whether it is there, and does its rows."""
+    """Asks arm by arm whether it is there, and does its rows; asks for all behind the first at once if that is
+    shorter."""
     place, pairs = statement[1], statement[2]
     asked, rest = arms_asked(pairs)
-    known = worth_knowing(compiling, place, len(asked) - 1)
+    names = [pairs[number][0] for number in asked]
+    at_once = is_shorter_at_once(compiling, place, names[1:])
     ends = []
     for turn, number in enumerate(asked):
-        if turn == 1 and known.steps:
-            add_known(compiling, known)
-        add_probe(compiling, place, known.numbers if turn > 0 else (), pairs[number][0])
+        if turn == 0 or not at_once:
+            add_probe(compiling, place, names[turn])
+        elif turn == 1:
+            add_truths(compiling, place, names[1:])
         other = left_open(compiling)
+        if turn > 0 and at_once:
+            add_drops(compiling, len(asked) - 1 - turn)
         add_rows(compiling, pairs[number][1], at + (2, number, 1))
         ends.append(left_open(compiling))
         lead_here(compiling, other, "unless")
     for number in rest:
         add_rows(compiling, pairs[number][1], at + (2, number, 1))
-    add_ends(compiling, known, ends)
-
-
-def add_ends(compiling, known, ends):
-    """Leads the ends of all arms that were asked for to one row, behind which no known number is left."""
-    last = left_open(compiling)
-    for turn, end in enumerate(ends[1:], start=1):
+    for end in ends:
         lead_here(compiling, end, "jump")
-        # Behind the last one nothing is left, so it comes last.
-        if turn < len(ends) - 1:
-            add_drop(compiling, known)
-    lead_here(compiling, ends[0], "jump")
-    lead_here(compiling, last, "jump")
 
 
 STATEMENTS = {
